@@ -1,0 +1,1 @@
+"""Tablestore: tables, questions, dealings, and a log."""

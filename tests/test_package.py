@@ -1,0 +1,75 @@
+"""The package as a whole: the points [1] and [2], and the names and arguments of the interface."""
+
+import ast
+import importlib
+import inspect
+import pathlib
+import unittest
+
+import tablestore
+
+FOLDER = pathlib.Path(tablestore.__file__).parent
+
+# The files of each stage, from the first on.
+STAGES = [
+    ["errors", "values", "shapes"],
+    ["ordered", "balance"],
+    ["tables", "states"],
+    ["stores", "dealings"],
+    ["records", "journals"],
+    ["words", "asking", "showing", "checking"],
+    ["conditions", "plans", "costs", "doing"],
+    ["answers", "desk"],
+]
+
+# The files of stages that are there, and of each its functions with their arguments.
+FUNCTIONS = {
+    "values": {
+        "is_value": ["thing"], "kind_of": ["value"], "compare": ["one", "other"], "written": ["value"],
+        "read_value": ["line"], "read_values": ["line"],
+    },
+    "shapes": {
+        "is_name": ["thing"], "is_shape": ["thing"], "column_place": ["shape", "column"], "fits": ["shape", "row"],
+    },
+}
+
+
+def imports_of(path):
+    """The modules that a file draws from, and every other import it has, as a text."""
+    drawn = []
+    for node in ast.walk(ast.parse(path.read_text())):
+        if isinstance(node, ast.ImportFrom) and node.level == 0:
+            drawn.append(node.module)
+        elif isinstance(node, (ast.Import, ast.ImportFrom)):
+            drawn.append(ast.unparse(node))
+    return drawn
+
+
+class Package(unittest.TestCase):
+    def test_each_function_has_its_arguments(self):
+        for name, functions in FUNCTIONS.items():
+            module = importlib.import_module("tablestore." + name)
+            for function, arguments in functions.items():
+                told = inspect.signature(getattr(module, function)).parameters
+                self.assertEqual(list(told), arguments, function)
+
+    def test_the_package_itself_draws_from_nothing(self):
+        self.assertEqual(imports_of(FOLDER / "__init__.py"), [])
+
+    def test_a_file_draws_from_its_own_stage_and_those_ahead_alone(self):
+        ahead = []
+        for files in STAGES:
+            ahead.extend(["tablestore." + name for name in files])
+            for name in files:
+                path = FOLDER / (name + ".py")
+                for module in imports_of(path) if path.is_file() else []:
+                    self.assertIn(module, ahead, path)
+
+    def test_every_file_belongs_to_a_stage(self):
+        known = ["__init__"] + [name for files in STAGES for name in files]
+        for path in FOLDER.glob("*.py"):
+            self.assertIn(path.stem, known)
+
+
+if __name__ == "__main__":
+    unittest.main()
