@@ -38,6 +38,13 @@ def compare(one, other):
     return -1 if one < other else 1
 
 
+# For `sorted`: tuples that Python puts in the order in which compare puts the values.
+def order_key(value):
+    if value is None:
+        return (0, 0)
+    return (KINDS.index(kind_of(value)), value)
+
+
 def written(value):
     if value is None:
         return "none"

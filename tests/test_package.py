@@ -17,12 +17,12 @@ STAGES = [
     ["tables", "states"],
     ["stores", "dealings"],
     ["records", "journals"],
-    ["words", "asking", "showing", "checking"],
+    ["words", "piles", "asking", "showing", "checking"],
     ["conditions", "plans", "costs", "doing"],
     ["answers", "desk"],
 ]
 
-# The files of stages that are there, and of each its functions with their arguments.
+# The files that are there, and of each its functions, and its classes that can be made, with their arguments.
 FUNCTIONS = {
     "values": {
         "is_value": ["thing"], "kind_of": ["value"], "compare": ["one", "other"], "written": ["value"],
@@ -31,6 +31,27 @@ FUNCTIONS = {
     "shapes": {
         "is_name": ["thing"], "is_shape": ["thing"], "column_place": ["shape", "column"], "fits": ["shape", "row"],
     },
+    "ordered": {
+        "comes_ahead": ["one", "other"], "empty_index": [], "entries_of": ["index"], "many_in": ["index"],
+        "has_entry": ["index", "value", "number"], "stretch": ["index", "low", "high"], "is_index": ["thing"],
+    },
+    "balance": {
+        "with_entry": ["index", "value", "number"], "without_entry": ["index", "value", "number"],
+        "index_from": ["entries"],
+    },
+    "tables": {
+        "Table": ["shape", "rows", "indexes"], "new_table": ["shape"], "with_row": ["table", "number", "row"],
+        "without_row": ["table", "number"], "with_index": ["table", "column"], "is_table": ["thing"],
+        "numbers_of": ["table"],
+    },
+    "states": {
+        "changed": ["state", "change"], "all_changed": ["state", "changes"], "is_state": ["state"],
+        "key_of": ["change"],
+    },
+}
+
+# The methods of classes, each with its arguments behind self.
+METHODS = {
 }
 
 
@@ -52,6 +73,13 @@ class Package(unittest.TestCase):
             for function, arguments in functions.items():
                 told = inspect.signature(getattr(module, function)).parameters
                 self.assertEqual(list(told), arguments, function)
+
+    def test_each_method_has_its_arguments(self):
+        for (name, owner), methods in METHODS.items():
+            owner = getattr(importlib.import_module("tablestore." + name), owner)
+            for method, arguments in methods.items():
+                told = inspect.signature(getattr(owner, method)).parameters
+                self.assertEqual(list(told), ["self"] + arguments, method)
 
     def test_the_package_itself_draws_from_nothing(self):
         self.assertEqual(imports_of(FOLDER / "__init__.py"), [])

@@ -45,3 +45,118 @@ def no_values():
         [], [1], ["abc"], {}, {"abc": 1}, set(), {1}, frozenset(), range(2), object(), object,
         int, str, len, NotImplemented, Ellipsis, Yes(), Cross(), own_list(), iter(()), lambda: None,
     ]
+
+
+def rank(value):
+    """Python's own order of these is the order of [1.2]."""
+    if value is None:
+        return (0, 0)
+    return (2, value) if isinstance(value, str) else (1, value)
+
+
+def entry_rank(entry):
+    return (rank(entry[0]), entry[1])
+
+
+def walk_index(case, index, root=True):
+    """The entries of an index, and how deep its leaves lie, with every cell held against [2.1] to [2.3]."""
+    case.assertIs(type(index), tuple)
+    case.assertEqual(len(index), 2)
+    word, things = index
+    case.assertIs(type(things), tuple)
+    case.assertLessEqual(len(things), 8)
+    if word == "leaf":
+        case.assertGreaterEqual(len(things), 0 if root else 4)
+        return list(things), 0
+    case.assertEqual(word, "branch")
+    case.assertGreaterEqual(len(things), 2 if root else 4)
+    entries = []
+    depths = set()
+    for part in things:
+        case.assertIs(type(part), tuple)
+        case.assertEqual(len(part), 2)
+        beneath, depth = walk_index(case, part[1], root=False)
+        case.assertEqual(part[0], beneath[0])
+        entries.extend(beneath)
+        depths.add(depth)
+    case.assertEqual(len(depths), 1)
+    return entries, depths.pop() + 1
+
+
+def check_index(case, index, wanted):
+    """That it is an index of just the entries wanted, in order; how deep its leaves lie."""
+    entries, depth = walk_index(case, index)
+    for entry in entries:
+        case.assertIs(type(entry), tuple)
+        case.assertEqual(len(entry), 2)
+    ranks = [entry_rank(entry) for entry in entries]
+    case.assertTrue(all(one < other for one, other in zip(ranks, ranks[1:])))
+    case.assertEqual(entries, sorted(wanted, key=entry_rank))
+    return depth
+
+
+def many_things():
+    """Things made of tuples, lists, texts, whole numbers, truths and None, and other ones."""
+    deep = ()
+    for _ in range(29):
+        deep = (deep,)
+    return no_values() + [
+        None, 0, 1, -1, 10 ** 9, 10 ** 30, "", "a", "leaf", "branch", (), (1,), (1, 2), ("a", 1), ((), ()), (None, 1),
+        ("leaf",), ("leaf", None), ("leaf", ""), ("leaf", []), ["leaf", ()], ("leaf", (), ()), ("leaf", {}),
+        ("branch", ()), ("branch", []), ("branch", None), ("branch",), ("LEAF", ()), (b"leaf", ()), deep, [[]], [()],
+    ]
+
+
+def plain_table(table):
+    """What a Table tells, as values that can be compared: its shape, its rows, and each index's entries."""
+    indexes = {}
+    for column, index in table.indexes.items():
+        entries = []
+        pile = [index]
+        while pile:
+            word, things = pile.pop()
+            if word == "leaf":
+                entries.extend(things)
+            else:
+                pile.extend([part[1] for part in reversed(things)])
+        indexes[column] = entries
+    return (table.shape, dict(table.rows), indexes)
+
+
+def plain_state(state):
+    return {name: plain_table(table) for name, table in state.items()}
+
+
+def check_table(case, table, shape, rows, columns):
+    """That a Table has just this shape, these rows, and sound indexes of just these columns."""
+    case.assertEqual(table.shape, shape)
+    case.assertIs(type(table.rows), dict)
+    case.assertEqual(table.rows, rows)
+    case.assertTrue(all(type(number) is int for number in table.rows))
+    case.assertIs(type(table.indexes), dict)
+    case.assertEqual(sorted(table.indexes), sorted(columns))
+    for place, (column, _) in enumerate(shape[1]):
+        if column in columns:
+            check_index(case, table.indexes[column], [(row[place], number) for number, row in rows.items()])
+
+
+def check_state(case, state, wanted):
+    """That a state has just the tables wanted: a dict from names to (shape, rows, columns)."""
+    case.assertIs(type(state), dict)
+    case.assertEqual(sorted(state), sorted(wanted))
+    for name, (shape, rows, columns) in wanted.items():
+        check_table(case, state[name], shape, rows, columns)
+
+
+def plain_changed(wanted, change):
+    """What a change makes of such a dict; that it can be done is not looked at."""
+    after = {name: (shape, dict(rows), list(columns)) for name, (shape, rows, columns) in wanted.items()}
+    if change[0] == "table":
+        after[change[1][0]] = (change[1], {}, [])
+    elif change[0] == "index":
+        after[change[1]][2].append(change[2])
+    elif change[0] == "put":
+        after[change[1]][1][change[2]] = change[3]
+    else:
+        del after[change[1]][1][change[2]]
+    return after
