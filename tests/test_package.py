@@ -48,10 +48,19 @@ FUNCTIONS = {
         "changed": ["state", "change"], "all_changed": ["state", "changes"], "is_state": ["state"],
         "key_of": ["change"],
     },
+    "stores": {"Store": [], "begin": ["store"], "store_of": ["rows"]},
+    "dealings": {"keys_of": ["changes"], "meets": ["changes", "rows"]},
+    "records": {"change_text": ["change"], "read_change": ["line"], "record": ["changes"]},
+    "journals": {"read_records": ["text"], "ends_in": ["text"], "log_of": ["store"], "risen": ["text"]},
 }
 
 # The methods of classes, each with its arguments behind self.
 METHODS = {
+    ("stores", "Store"): {"many": [], "changes": ["k"], "state": ["k"], "newest": [], "greatest": []},
+    ("dealings", "Dealing"): {
+        "start": [], "view": [], "mine": [], "make": ["shape"], "order_by": ["table", "column"], "put": ["table", "row"],
+        "change": ["table", "number", "row"], "drop": ["table", "number"], "leave": [], "keep": [],
+    },
 }
 
 
