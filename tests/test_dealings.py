@@ -136,7 +136,8 @@ class StoreOf(TestCase):
             (BEGUN + [[("table", PETS), None]], TableThere), (BEGUN + [[None, ("table", PETS)]], BadChange),
             (BEGUN + [[("index", "people", "age")]], IndexThere), (BEGUN + [[("index", "pets", "age")]], NoColumn),
             ([[("table", ("x", ()))]], BadShape), (BEGUN + [[("put", "pets", 1, (1,))]], BadRow),
-            (BEGUN + [[("put", "pets", 0, ("a",))]], BadChange), (BEGUN + [[], [("put", "pets", True, ("a",))]], BadChange),
+            (BEGUN + [[("put", "pets", 0, ("a",))]], BadChange), (BEGUN + [[], [("put", "pets", True, ("a",))]],
+                                                                  BadChange),
             (BEGUN + [[("drop", "people", 1)], [("drop", "people", 1)]], NoRow),
         ):
             self.check_refused(kind, store_of, rows)
@@ -281,7 +282,8 @@ class Refused(TestCase):
         self.assertEqual(self.store.greatest(), 4)
 
     def test_make(self):
-        for shape in [("x",), ("x", ()), ["x", PETS[1]], ("x", list(PETS[1])), None, "x", 7, ("pets", ())] + no_values():
+        for shape in [("x",), ("x", ()), ["x", PETS[1]], ("x", list(PETS[1])), None, "x", 7,
+                      ("pets", ())] + no_values():
             self.check(BadShape, self.dealing.make, shape)
         for shape in (PEOPLE, ("people", PETS[1]), PETS):
             self.check(TableThere, self.dealing.make, shape)
@@ -457,9 +459,12 @@ class Keeping(TestCase):
 class OverAndLeft(TestCase):
     def check_over(self, dealing):
         for deed, arguments in (
-            (dealing.start, ()), (dealing.view, ()), (dealing.mine, ()), (dealing.make, (MORE,)), (dealing.make, (None,)),
-            (dealing.order_by, ("people", "name")), (dealing.order_by, (None, None)), (dealing.put, ("people", ("a", 1))),
-            (dealing.put, (None, None)), (dealing.change, ("people", 1, ("a", 1))), (dealing.change, (None, None, None)),
+            (dealing.start, ()), (dealing.view, ()), (dealing.mine, ()), (dealing.make, (MORE,)),
+            (dealing.make, (None,)),
+            (dealing.order_by, ("people", "name")), (dealing.order_by, (None, None)),
+            (dealing.put, ("people", ("a", 1))),
+            (dealing.put, (None, None)), (dealing.change, ("people", 1, ("a", 1))),
+            (dealing.change, (None, None, None)),
             (dealing.drop, ("people", 1)), (dealing.drop, (None, None)), (dealing.keep, ()), (dealing.leave, ()),
         ):
             self.check_refused(Over, deed, *arguments)
@@ -538,7 +543,8 @@ class Keys(TestCase):
             keys_of([
                 ("put", "people", 2, ("a", 1)), ("table", PETS), ("drop", "people", 2), ("index", "people", "age"),
                 ("put", "people", 1, ("a", 1)), ("put", "people", 2, ("a", 1)), ("put", "pets", 2, ("a",))]),
-            [("row", "people", 2), ("table", "pets"), ("index", "people", "age"), ("row", "people", 1), ("row", "pets", 2)])
+            [("row", "people", 2), ("table", "pets"), ("index", "people", "age"), ("row", "people", 1),
+             ("row", "pets", 2)])
 
     def test_meets(self):
         put, drop = ("put", "people", 2, ("a", 1)), ("drop", "people", 2)

@@ -67,8 +67,10 @@ class Reading(TestCase):
     def test_what_is_torn_is_not_looked_at(self):
         for ahead, rows, ends in (("", [], []), (LOG, ROWS, ENDS)):
             for torn in ("000000009\n", "000000009\nxxxxxxxxx", "000000009\nxxxxxxxxxend", "000000009\ndrop t 5\nEND",
-                         "000000005\n\n\n\n\nabc", "000000000\n", "000000000\nxyz", "000000000\nend", "999999999\n" + "\u00e4" * 50,
-                         "000000100\n" + LOG[:103], "000000009\n000000009\n", "000000020\ndrop t 5\nend\nxxxxxx", "999999999\n"):
+                         "000000005\n\n\n\n\nabc", "000000000\n", "000000000\nxyz", "000000000\nend",
+                         "999999999\n" + "\u00e4" * 50,
+                         "000000100\n" + LOG[:103], "000000009\n000000009\n", "000000020\ndrop t 5\nend\nxxxxxx",
+                         "999999999\n"):
                 self.check_read(ahead + torn, rows, ends)
 
     def test_texts_shorter_than_ten_signs(self):
@@ -84,13 +86,17 @@ class Reading(TestCase):
     def test_heads_that_are_not_figures_and_a_line_end(self):
         good = "drop t 5\nend\n"
         self.check_read("000000009\n" + good, [[("drop", "t", 5)]], [23])
-        for head in ("000000009 ", "0000000009", "000000009\r", "00000009\n\n", " 00000009\n", "+00000009\n", "-00000009\n",
-                     "00000000a\n", "00000000 9", "000000_09\n", "00000009\nd", "9\ndrop t 5", "\u0660" * 9 + "\n", "0x0000009\n"):
+        for head in ("000000009 ", "0000000009", "000000009\r", "00000009\n\n", " 00000009\n", "+00000009\n",
+                     "-00000009\n",
+                     "00000000a\n", "00000000 9", "000000_09\n", "00000009\nd", "9\ndrop t 5", "\u0660" * 9 + "\n",
+                     "0x0000009\n"):
             self.check_refused(head + good, LOG + head + good, head, LOG + head)
 
     def test_whole_records_whose_body_is_not_lines_of_changes(self):
-        for body in ("", "\n", "drop t 5", "drop t 5\n\n", "\ndrop t 5\n", "drop t 5\ndrop t 6", "drop t 05\n", "drop t 5\r\n",
-                     "drop t 5 \n", "xxx\n", "end\n", "drop t 5\nend\n", "put t 1\n", "put t 1 \"a\nb\"\n", "drop t 5\n \n",
+        for body in ("", "\n", "drop t 5", "drop t 5\n\n", "\ndrop t 5\n", "drop t 5\ndrop t 6", "drop t 05\n",
+                     "drop t 5\r\n",
+                     "drop t 5 \n", "xxx\n", "end\n", "drop t 5\nend\n", "put t 1\n", "put t 1 \"a\nb\"\n",
+                     "drop t 5\n \n",
                      "table t a none\n", "drop t 5\x0bdrop t 6\n", "drop t 5\u2028", "put t 1 1 2 3 4 5 6 7 8 9\n"):
             self.check_refused(body_record(body), LOG + body_record(body), body_record(body) + LOG)
 

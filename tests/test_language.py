@@ -217,7 +217,8 @@ def faults_in_walks(tree):
             if isinstance(node, ast.keyword) and (called(parent), node.arg) not in KEYWORDS:
                 yield f"L22 row {node.lineno}"
         if isinstance(parent, ast.For):
-            walked = {ast.unparse(node) for node in ast.walk(parent.iter) if isinstance(node, (ast.Name, ast.Attribute))}
+            walked = {ast.unparse(node) for node in ast.walk(parent.iter) if isinstance(node,
+                                                                                        (ast.Name, ast.Attribute))}
             for node in ast.walk(parent):
                 changes = isinstance(node, ast.Subscript) and isinstance(node.ctx, ast.Store)
                 if changes and ast.unparse(node.value) in walked:
@@ -296,7 +297,8 @@ class Language(unittest.TestCase):
             "def f(x):\n    with x:\n        pass\n", "x = y = 1\n", "x = '\u00e4'\n", "def f(x):\n\treturn x\n",
             "def f(x):\n    return x is x\n", "f()\n", "def f(x):\n" + "    x = 1\n" * 40,
             "x = 1 + 1\n", "x = [[]]\n", "def f(x):\n    return range(x)\n", "def f(x):\n    y = x.items()\n",
-            "def f(x):\n    y = set(x)\n", "def f(x):\n    return {1, x}\n", "def f(x):\n    return max(x, key=f, y=1)\n",
+            "def f(x):\n    y = set(x)\n", "def f(x):\n    return {1, x}\n",
+            "def f(x):\n    return max(x, key=f, y=1)\n",
             "def f(x):\n    for y in x:\n        x.append(y)\n", "def f(x):\n    for y in x:\n        x[y] = 1\n",
             "def f(x):\n    raise x\n", "def f(x):\n    try:\n        f(x)\n    except ValueError:\n        pass\n",
             "def f(f):\n    pass\n", "from a import b\n\n\ndef f(b):\n    pass\n", "def f(os):\n    pass\n",

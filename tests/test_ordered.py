@@ -266,7 +266,8 @@ class IsIndex(unittest.TestCase):
         ones = leaf((1, 1), (1, 2), (1, 3), (1, 4))
         more = leaf((2, 1), (2, 2), (2, 3), (2, 4))
         self.assertIs(is_index(("branch", (((1, 1), ones), ((2, 1), more)))), True)
-        self.check_none(("branch", (((True, 1), ones), ((2, 1), more))), ("branch", (((1, True), ones), ((2, 1), more))))
+        self.check_none(("branch", (((True, 1), ones), ((2, 1), more))), ("branch",
+                                                                          (((1, True), ones), ((2, 1), more))))
 
     def test_numbers_of_rows(self):
         for number in (1, 2, 10 ** 9 - 1, 10 ** 9):
@@ -298,7 +299,8 @@ class IsIndex(unittest.TestCase):
     def test_cells_of_another_form(self):
         self.check_none(
             ("leaf", [(1, 1)]), ["leaf", ((1, 1),)], ("leaf", ((1, 1),), ()), ("leaf", ([1, 1],)), ("leaf", (1, 2)),
-            ("leaf", ((1,),)), ("leaf", ((1, 2, 3),)), ("leaf", "ab"), ("leaf", 0), ("leaf", True), ("Leaf", ()), (0, ()),
+            ("leaf", ((1,),)), ("leaf", ((1, 2, 3),)), ("leaf", "ab"), ("leaf", 0), ("leaf", True), ("Leaf", ()),
+            (0, ()),
             ("branch", ((5, 1), (5, 2))), ("branch", [((5, 1), run_of(1, 4)), ((5, 5), run_of(5, 4))]),
             ("branch", ([(5, 1), run_of(1, 4)], ((5, 5), run_of(5, 4)))),
             ("branch", (((5, 1), list(run_of(1, 4))), ((5, 5), run_of(5, 4)))),

@@ -52,13 +52,16 @@ FUNCTIONS = {
     "dealings": {"keys_of": ["changes"], "meets": ["changes", "rows"]},
     "records": {"change_text": ["change"], "read_change": ["line"], "record": ["changes"]},
     "journals": {"read_records": ["text"], "ends_in": ["text"], "log_of": ["store"], "risen": ["text"]},
+    "words": {"word_at": ["text", "place"]},
+    "asking": {"read": ["text"], "fault_in": ["text"]},
 }
 
 # The methods of classes, each with its arguments behind self.
 METHODS = {
     ("stores", "Store"): {"many": [], "changes": ["k"], "state": ["k"], "newest": [], "greatest": []},
     ("dealings", "Dealing"): {
-        "start": [], "view": [], "mine": [], "make": ["shape"], "order_by": ["table", "column"], "put": ["table", "row"],
+        "start": [], "view": [], "mine": [], "make": ["shape"], "order_by": ["table", "column"],
+        "put": ["table", "row"],
         "change": ["table", "number", "row"], "drop": ["table", "number"], "leave": [], "keep": [],
     },
 }

@@ -35,23 +35,31 @@ BAD = [
     "", " ", "table", "table ", "table t", "table t ", "table t a", "table t a ", "table t a none", "table t a Text",
     "table t a text b", "table t a text ", " table t a text", "table  t a text", "table t  a text", "table t a  text",
     "table t a text  b text", "table t a text a number", "table none a text", "table t by text", "table T a text",
-    "table toolongname a text", "table t abcdefghi text", "table t a text b number c", "Table t a text", "table t 1 text",
-    "table t text", "table t text text text", "table\tt a text", "table t a text\n", "table t a,text", "table t (a text)",
+    "table toolongname a text", "table t abcdefghi text", "table t a text b number c", "Table t a text",
+    "table t 1 text",
+    "table t text", "table t text text text", "table\tt a text", "table t a text\n", "table t a,text",
+    "table t (a text)",
     "table t " + " ".join([f"{letter} text" for letter in "abcdefghi"]),
     "index", "index ", "index t", "index t ", "index t a b", "index t a ", "index  t a", "index t  a", " index t a",
-    "index none a", "index t none", "index T a", "index t A", "index t 1", "index t toolongname", "Index t a", "index t a\n",
+    "index none a", "index t none", "index T a", "index t A", "index t 1", "index t toolongname", "Index t a",
+    "index t a\n",
     "indexes t a", "index t.a", "index,t,a",
     "put", "put ", "put t", "put t ", "put t 1", "put t 1 ", "put t 1  1", "put t  1 1", "put  t 1 1", " put t 1 1",
     "put t 1 1 ", "put t 1 1  2", "put t 0 1", "put t 01 1", "put t -1 1", "put t +1 1", "put t 1000000001 1",
-    "put t 9999999999 1", "put t 10000000000 1", "put t " + "1" * 6000 + " 1", "put t 1.0 1", "put t one 1", "put t none 1",
-    'put t "1" 1', "put t 1_0 1", "put t \u0661 1", "put t \u00b2 1", "put none 1 1", "put T 1 1", "put toolongname 1 1",
+    "put t 9999999999 1", "put t 10000000000 1", "put t " + "1" * 6000 + " 1", "put t 1.0 1", "put t one 1",
+    "put t none 1",
+    'put t "1" 1', "put t 1_0 1", "put t \u0661 1", "put t \u00b2 1", "put none 1 1", "put T 1 1",
+    "put toolongname 1 1",
     "put 1 1", "put t 1 a", "put t 1 01", "put t 1 -0", "put t 1 None", 'put t 1 "a', 'put t 1 a"', 'put t 1 "a"b"',
     'put t 1 "' + "x" * 41 + '"', "put t 1 " + "9" * 19, "put t 1 1 2 3 4 5 6 7 8 9", "put t 1 " + "none " * 8 + "none",
-    'put t 1 "a" "b', "put t 1 1,2", "put t 1\t1", "put t 1 1\n", 'put t 1 "\n"', 'put t 1 "\u00e4"', "Put t 1 1", "puts t 1 1",
+    'put t 1 "a" "b', "put t 1 1,2", "put t 1\t1", "put t 1 1\n", 'put t 1 "\n"', 'put t 1 "\u00e4"', "Put t 1 1",
+    "puts t 1 1",
     "drop", "drop ", "drop t", "drop t ", "drop t 0", "drop t 01", "drop t -1", "drop t 1000000001", "drop t 1 ",
     "drop t  1", "drop  t 1", " drop t 1", "drop t 1 1", "drop t a", "drop t none", "drop none 1", "drop T 1", "drop 1",
-    "drop t 1\n", "drop t \u0661", "drop t " + "9" * 5000, 'drop t "1"', "Drop t 1", "drop toolongname 1", "drop t 1 none",
-    "change t 1 1", "make t a text", "order t a", "row t 1", "end", "none", "1", "000000001", "table;t;a;text", "#", "put\n",
+    "drop t 1\n", "drop t \u0661", "drop t " + "9" * 5000, 'drop t "1"', "Drop t 1", "drop toolongname 1",
+    "drop t 1 none",
+    "change t 1 1", "make t a text", "order t a", "row t 1", "end", "none", "1", "000000001", "table;t;a;text", "#",
+    "put\n",
 ]
 
 
@@ -120,7 +128,8 @@ class Lines(unittest.TestCase):
 
     def test_what_is_read_is_written_to_the_same_line(self):
         chance = random.Random(61)
-        pieces = ["put", "drop", "index", "table", "t", "none", "1", "0", "10", "text", "number", '"a"', '""', "a", "", '"']
+        pieces = ["put", "drop", "index", "table", "t", "none", "1", "0", "10", "text", "number", '"a"', '""', "a", "",
+                  '"']
         for _ in range(20000):
             line = " ".join([chance.choice(pieces) for _ in range(chance.randint(1, 6))])
             try:

@@ -21,7 +21,8 @@ BEGUN = [
 
 BAD_SHAPES = [
     ("people",), ("people", ()), ("none", PEOPLE[1]), ["people", PEOPLE[1]], ("people", list(PEOPLE[1])),
-    ("people", PEOPLE[1] + PEOPLE[1]), ("toolongname", PEOPLE[1]), ("people", (("age", "none"),)), "people", None, 7, (),
+    ("people", PEOPLE[1] + PEOPLE[1]), ("toolongname", PEOPLE[1]), ("people", (("age", "none"),)), "people", None, 7,
+    (),
 ]
 
 
@@ -133,10 +134,12 @@ class Refused(unittest.TestCase):
     def test_what_is_no_change(self):
         self.check(BadChange, *[thing for thing in many_things()])
         self.check(
-            BadChange, ("table",), ("table", PEOPLE, 1), ("index", "people"), ("index", "people", "name", 1), ("index",),
+            BadChange, ("table",), ("table", PEOPLE, 1), ("index", "people"), ("index", "people", "name", 1),
+            ("index",),
             ("put", "people", 1), ("put", "people", 1, ("a", 1), 1), ("put",), ("drop", "people"), ("drop",),
             ("drop", "people", 1, 1), ("Table", PEOPLE), ("tables", PEOPLE), ("take", "people", 1), ("", 1), (None, 1),
-            (1, 2), (("table",), PEOPLE), (["table"], PEOPLE), ["table", PEOPLE], ["drop", "people", 1], (Yes(), PEOPLE),
+            (1, 2), (("table",), PEOPLE), (["table"], PEOPLE), ["table", PEOPLE], ["drop", "people", 1],
+            (Yes(), PEOPLE),
             (Cross(), "people", 1), (True, "people", 1), ("row", "people", 1), "drop", ("put ", "people", 1, ("a", 1)))
 
     def test_the_form_comes_first(self):
@@ -150,7 +153,8 @@ class Refused(unittest.TestCase):
         no_tables = ["nobody", "", "People", "none", None, 1, True, (), ["people"], ("people",), PEOPLE] + no_values()
         self.check(NoTable, *[("index", name, "name") for name in no_tables])
         self.check(NoTable, *[("index", "nobody", column) for column in (None, "none", "age")])
-        no_columns = ["", "people", "kind", "Age", None, 0, 1, True, (), ["age"], ("age",), ("age", "number")] + no_values()
+        no_columns = ["", "people", "kind", "Age", None, 0, 1, True, (), ["age"], ("age",),
+                      ("age", "number")] + no_values()
         self.check(NoColumn, *[("index", "people", column) for column in no_columns])
         self.check(IndexThere, ("index", "people", "age"))
         # The same column's name in another table, and one that is the table's.
@@ -173,12 +177,14 @@ class Refused(unittest.TestCase):
     def test_the_order_where_two_are_due(self):
         self.check(BadShape, ("table", ("people", ())), ("table", ("people", [("age", "number")])))
         self.check(NoTable, ("put", "nobody", 0, None), ("put", "nobody", 1, None), ("put", None, True, ("a", 1)))
-        self.check(BadChange, ("put", "people", 0, None), ("put", "people", True, ["a", 1]), ("put", "people", None, ()))
+        self.check(BadChange, ("put", "people", 0, None), ("put", "people", True, ["a", 1]),
+                   ("put", "people", None, ()))
         self.check(NoTable, ("drop", "nobody", 0), ("drop", None, True), ("index", 5, 5))
 
     def test_the_first_of_several_that_are_refused(self):
         for changes, kind in (
-            ([("drop", "people", 9), ("table", PEOPLE)], NoRow), ([("table", PEOPLE), ("drop", "people", 9)], TableThere),
+            ([("drop", "people", 9), ("table", PEOPLE)], NoRow), ([("table", PEOPLE), ("drop", "people", 9)],
+                                                                  TableThere),
             ([("put", "people", 9, ("x", 1)), ("drop", "people", 9), ("drop", "people", 9), None], NoRow),
             ([("drop", "people", 1), None], BadChange),
         ):

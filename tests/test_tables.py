@@ -129,7 +129,8 @@ class IsTable(unittest.TestCase):
 
     def test_sound_ones(self):
         rows = {number: (str(number % 3), number % 5) for number in range(1, 60)}
-        for indexes in ({}, {"age": self.index_of(rows, 1)}, {"name": self.index_of(rows, 0), "age": self.index_of(rows, 1)}):
+        for indexes in ({}, {"age": self.index_of(rows, 1)}, {"name": self.index_of(rows, 0),
+                                                              "age": self.index_of(rows, 1)}):
             self.assertIs(is_table(Table(PEOPLE, rows, indexes)), True)
         self.assertIs(is_table(Table(PEOPLE, {}, {"age": ("leaf", ())})), True)
 
@@ -173,7 +174,8 @@ class IsTable(unittest.TestCase):
     def test_indexes_that_are_none(self):
         rows = {1: ("a", 1), 2: ("b", 2)}
         for index in (("leaf", ((2, 2), (1, 1))), ("leaf", [(1, 1), (2, 2)]), ("leaf", ((True, 1), (2, 2))),
-                      ("leaf", ((1, True), (2, 2))), ("branch", (((1, 1), ("leaf", ((1, 1), (2, 2)))),)), [(1, 1), (2, 2)]):
+                      ("leaf", ((1, True), (2, 2))), ("branch", (((1, 1), ("leaf", ((1, 1), (2, 2)))),)),
+                      [(1, 1), (2, 2)]):
             self.assertIs(is_table(Table(PEOPLE, rows, {"age": index})), False)
         self.assertIs(is_table(Table(PEOPLE, rows, {"age": ("leaf", ((1, 1), (2, 2)))})), True)
 
