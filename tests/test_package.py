@@ -54,6 +54,13 @@ FUNCTIONS = {
     "journals": {"read_records": ["text"], "ends_in": ["text"], "log_of": ["store"], "risen": ["text"]},
     "words": {"word_at": ["text", "place"]},
     "asking": {"read": ["text"], "fault_in": ["text"]},
+    "showing": {"shown": ["tree"], "condition_text": ["condition"], "columns_of": ["tree"], "cells_of": ["condition"]},
+    "checking": {"bound": ["tree", "shapes"]},
+    "conditions": {
+        "parts_of": ["condition"], "speaks_of": ["condition"], "value_by": ["tree", "state", "numbers", "side"],
+        "holds": ["tree", "state", "numbers", "condition"],
+    },
+    "plans": {"bounds_of": ["tree", "k", "place"], "ways": ["tree", "state", "k"], "plans": ["tree", "state"]},
 }
 
 # The methods of classes, each with its arguments behind self.

@@ -160,3 +160,11 @@ def plain_changed(wanted, change):
     else:
         del after[change[1]][1][change[2]]
     return after
+
+
+def asked(text, state):
+    """The bound tree of a question over a state."""
+    from tablestore.asking import read
+    from tablestore.checking import bound
+
+    return bound(read(text), {name: table.shape for name, table in state.items()})
