@@ -22,7 +22,7 @@ STAGES = [
     ["answers", "desk"],
 ]
 
-# The files that are there, and of each its functions, and its classes that can be made, with their arguments.
+# Of each file its functions, and its classes that can be made, with their arguments.
 FUNCTIONS = {
     "values": {
         "is_value": ["thing"], "kind_of": ["value"], "compare": ["one", "other"], "written": ["value"],
@@ -61,6 +61,15 @@ FUNCTIONS = {
         "holds": ["tree", "state", "numbers", "condition"],
     },
     "plans": {"bounds_of": ["tree", "k", "place"], "ways": ["tree", "state", "k"], "plans": ["tree", "state"]},
+    "costs": {
+        "guess": ["plan", "tree", "state"], "cost": ["plan", "tree", "state"], "chosen": ["tree", "state"],
+    },
+    "doing": {
+        "tuples_of": ["plan", "tree", "state"], "doings": ["plan", "tree", "state"],
+        "answer_by": ["plan", "tree", "state"], "answer": ["tree", "state"],
+    },
+    "answers": {"answer_text": ["values"], "refusal_text": ["error"]},
+    "desk": {"Desk": [], "answered": ["text"]},
 }
 
 # The methods of classes, each with its arguments behind self.
@@ -71,6 +80,7 @@ METHODS = {
         "put": ["table", "row"],
         "change": ["table", "number", "row"], "drop": ["table", "number"], "leave": [], "keep": [],
     },
+    ("desk", "Desk"): {"say": ["row"], "log": []},
 }
 
 
@@ -109,7 +119,7 @@ class Package(unittest.TestCase):
             ahead.extend(["tablestore." + name for name in files])
             for name in files:
                 path = FOLDER / (name + ".py")
-                for module in imports_of(path) if path.is_file() else []:
+                for module in imports_of(path):
                     self.assertIn(module, ahead, path)
 
     def test_every_file_belongs_to_a_stage(self):

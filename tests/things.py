@@ -1,4 +1,7 @@
-"""Things of many kinds that are no values, for the functions that answer of anything."""
+"""What several files of tests share: things of many kinds, and plain accounts of what the program tells."""
+
+import functools
+import itertools
 
 
 class Yes:
@@ -168,3 +171,89 @@ def asked(text, state):
     from tablestore.checking import bound
 
     return bound(read(text), {name: table.shape for name, table in state.items()})
+
+
+SIGN_TELLS = {
+    "=": lambda one, other: one == other, "<>": lambda one, other: one != other, "<": lambda one, other: one < other,
+    "<=": lambda one, other: one <= other, ">": lambda one, other: one > other, ">=": lambda one, other: one >= other,
+}
+
+
+def plain_value(tree, state, numbers, side):
+    if side[0] == "value":
+        return side[1]
+    return state[tree[1][side[1]][0]].rows[numbers[side[1]]][side[2]]
+
+
+def plain_holds(tree, state, numbers, condition):
+    if condition is None:
+        return True
+    if condition[0] == "test":
+        sides = [rank(plain_value(tree, state, numbers, side)) for side in condition[2:]]
+        return SIGN_TELLS[condition[1]](*sides)
+    told = [plain_holds(tree, state, numbers, inner) for inner in condition[1:]]
+    return {"and": all(told), "or": any(told), "not": not told[0]}[condition[0]]
+
+
+def plain_ordered(tuples, orders, tree, state):
+    """Tuples in the order of [7.4], two by two."""
+    def compare_two(one, other):
+        for cell, down in orders:
+            first, second = [rank(plain_value(tree, state, numbers, cell)) for numbers in (one, other)]
+            if first != second:
+                return (1 if first > second else -1) * (-1 if down else 1)
+        return (one > other) - (one < other)
+
+    return sorted(tuples, key=functools.cmp_to_key(compare_two))
+
+
+def plain_tuples(tree, state):
+    """The tuples of [7.4] in their order, by a plain walk over all."""
+    rows = [state[source[0]].rows for source in tree[1]]
+    found = [numbers for numbers in itertools.product(*rows) if plain_holds(tree, state, numbers, tree[2])]
+    return plain_ordered(found, tree[3], tree, state)
+
+
+def plain_answer(tree, state):
+    tuples = plain_tuples(tree, state)
+    if tree[5] is not None:
+        tuples = tuples[:tree[5]]
+    return [tuple([plain_value(tree, state, numbers, cell) for cell in tree[4]]) for numbers in tuples]
+
+
+class Asker:
+    """Questions by chance over tables whose shapes it is told."""
+
+    def __init__(self, chance, shapes):
+        self.chance = chance
+        self.shapes = shapes
+
+    def column(self):
+        k = self.chance.randrange(len(self.sources))
+        return "pqr"[k] + "." + self.chance.choice(self.sources[k][1])[0]
+
+    def side(self):
+        if self.chance.random() < 0.35:
+            return self.chance.choice(["0", "1", "2", "none", '"a"', '"b"', "5"])
+        return self.column()
+
+    def condition(self, depth):
+        word = self.chance.choice(["and", "and", "and", "or", "not", "test"]) if depth else "test"
+        if word == "test":
+            return f"{self.side()} {self.chance.choice(['=', '=', '=', '<', '<=', '>', '>=', '<>'])} {self.side()}"
+        if word == "not":
+            return f"not ({self.condition(depth - 1)})"
+        return f"({self.condition(depth - 1)} {word} {self.condition(depth - 1)})"
+
+    def question(self, most=3):
+        self.sources = [self.chance.choice(self.shapes) for _ in range(self.chance.randint(1, most))]
+        text = "from " + ", ".join([f"{shape[0]} {alias}" for shape, alias in zip(self.sources, "pqr")])
+        if self.chance.random() < 0.9:
+            text += " where " + self.condition(2)
+        orders = [self.column() + self.chance.choice(["", " down"]) for _ in range(self.chance.randint(0, 3))]
+        if orders:
+            text += " order by " + ", ".join(orders)
+        text += " show " + ", ".join([self.column() for _ in range(self.chance.randint(1, 4))])
+        if self.chance.random() < 0.3:
+            text += f" take {self.chance.choice([0, 1, 3, 1000])}"
+        return text
