@@ -36,8 +36,9 @@ class Piles:
     def settle(self, binding):
         while self.waiting != [] and BINDING[self.waiting[-1]] >= binding:
             word = self.waiting.pop()
-            last = self.trees.pop()
+            tree = self.trees.pop()
             if word == "not":
-                self.trees.append(("not", last))
+                self.trees.append(("not", tree))
             else:
-                self.trees.append((word, self.trees.pop(), last))
+                first = self.trees.pop()
+                self.trees.append((word, first, tree))

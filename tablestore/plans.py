@@ -36,7 +36,7 @@ def tests_by_value(parts, cell):
 # Low bounds are narrower the further behind (1), high ones the further ahead (-1).
 def is_narrower(bound, other, side):
     told = compare(bound[0], other[0])
-    return told == side or told == 0 and other[1] and not bound[1]
+    return told == side or told == 0 and not bound[1]
 
 
 def ways(tree, state, k):

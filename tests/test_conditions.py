@@ -92,6 +92,9 @@ class Holds(unittest.TestCase):
             self.assertIs(self.holds(("not", truth(one))), not one)
             self.assertIs(self.holds(("not", ("not", truth(one)))), one)
 
+    def test_no_condition_holds(self):
+        self.assertIs(self.holds(None), True)
+
     def test_mixtures_by_chance(self):
         chance = random.Random(101)
 
